@@ -1,0 +1,1 @@
+"""Farhold: things in houses that hold one another by letters."""

@@ -112,6 +112,10 @@ class House:
     def is_near(self, thing):
         return thing[0] == self.number
 
+    def is_spent(self, thing):
+        # A near thing has no record, and of a record of 2 or more something stays.
+        return self.records.get(thing) == 0
+
     def need_in_hand(self, thing):
         if thing not in self.hand:
             raise NotHeld("the hand does not hold the thing")

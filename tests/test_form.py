@@ -2,6 +2,7 @@
 
 import ast
 import builtins
+import functools
 import pathlib
 import re
 import unittest
@@ -31,10 +32,12 @@ WORDS = (
 )
 
 
+@functools.cache
 def sources():
     return {path.name: path.read_text(encoding="utf-8") for path in sorted(FOLDER.glob("*.py"))}
 
 
+@functools.cache
 def trees():
     return {name: ast.parse(source) for name, source in sources().items()}
 
@@ -55,10 +58,12 @@ def bound_names(node):
     return []
 
 
+@functools.cache
 def methods():
     return {node.name for name, one in found(ast.ClassDef) for node in one.body if isinstance(node, ast.FunctionDef)}
 
 
+@functools.cache
 def stored_values():
     return {node.attr for name, node in found(ast.Attribute) if isinstance(node.ctx, ast.Store)}
 
@@ -143,6 +148,43 @@ class FormTest(unittest.TestCase):
             self.assertEqual(node.decorator_list, [], (name, node.lineno))
         for name, node in found(ast.arguments):
             self.assertEqual((node.posonlyargs, node.vararg, node.kwonlyargs, node.kwarg), ([], None, [], None), name)
+
+    def test_the_top_of_a_file_has_defs_imports_and_plain_values_alone(self):
+        for name, tree in trees().items():
+            bound = [one for part in tree.body for one in bound_names(part)]
+            for part in tree.body[1:]:
+                self.assertIsInstance(part, (ast.ImportFrom, ast.FunctionDef, ast.ClassDef, ast.Assign), name)
+                if isinstance(part, ast.Assign):
+                    bound.append(part.targets[0].id)
+                    for node in list(ast.walk(part.value))[1:]:
+                        self.assertIsInstance(node, (ast.Constant, ast.Tuple, ast.Load), (name, part.lineno))
+            self.assertEqual(len(bound), len(set(bound)), name)
+
+    def test_no_parameter_or_local_is_called_like_a_class_or_an_import_of_its_file(self):
+        for name, tree in trees().items():
+            drawn = {alias.name for node in tree.body if isinstance(node, ast.ImportFrom) for alias in node.names}
+            taken = drawn | {node.name for node in tree.body if isinstance(node, ast.ClassDef)}
+            for node in ast.walk(tree):
+                if isinstance(node, (ast.arg, ast.Name)):
+                    self.assertEqual(taken & set(bound_names(node)), set(), (name, node.lineno))
+
+    def test_no_annotation(self):
+        for name, node in found(ast.FunctionDef):
+            self.assertIsNone(node.returns, (name, node.lineno))
+        for name, node in found(ast.arg):
+            self.assertIsNone(node.annotation, (name, node.lineno))
+
+    def test_comprehensions_are_short(self):
+        for name, node in found(ast.ListComp):
+            self.assertEqual(len(node.generators), 1, (name, node.lineno))
+            self.assertLessEqual(len(node.generators[0].ifs), 1, (name, node.lineno))
+
+    def test_what_is_walked_at_once_and_sets_are_never_kept(self):
+        walked = ("items", "keys", "values", "zip", "enumerate", "reversed", "range", "set")
+        for name, node in found((ast.Assign, ast.Return)):
+            if isinstance(node.value, ast.Call):
+                called = node.value.func
+                self.assertNotIn(getattr(called, "attr", getattr(called, "id", None)), walked, (name, node.lineno))
 
     def test_is_stands_beside_none_true_and_false_alone(self):
         for name, node in found(ast.Compare):
